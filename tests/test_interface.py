@@ -1,0 +1,38 @@
+import importlib
+import inspect
+import unittest
+
+FUNCTIONS = {
+    "houses": ["standing_of(house, lift, rows)", "restless(standing)", "is_done(standing)", "people(standing)",
+               "standing_at(standing, floor)"],
+    "moves": ["is_move(standing, thing)", "is_plan(standing, thing)", "moved(standing, move)",
+              "behind(standing, moves)", "all_moves(standing)"],
+    "logs": ["is_log(standing, thing)", "behind_log(standing, log)", "length_of(log)", "written_out(log)",
+             "as_log(moves)"],
+}
+CLASSES = {"houses": ["House(floors, room)", "Standing(house, lift, groups)"]}
+
+
+class Interface(unittest.TestCase):
+    def test_functions(self):
+        for module, calls in FUNCTIONS.items():
+            place = importlib.import_module(f"willinglift.{module}")
+            for call in calls:
+                function = getattr(place, call.split("(")[0])
+                self.assertTrue(inspect.isfunction(function))
+                self.assertEqual(f"{function.__name__}{inspect.signature(function)}", call)
+                self.assertEqual(function.__module__, place.__name__)
+
+    def test_classes(self):
+        for module, calls in CLASSES.items():
+            place = importlib.import_module(f"willinglift.{module}")
+            for call in calls:
+                made = getattr(place, call.split("(")[0])
+                self.assertTrue(inspect.isclass(made))
+                self.assertEqual(f"{made.__name__}{inspect.signature(made)}", call)
+                self.assertEqual(made.__module__, place.__name__)
+                self.assertIn("__eq__", vars(made))
+
+
+if __name__ == "__main__":
+    unittest.main()

@@ -1,0 +1,1 @@
+"""Willinglift: the least moves of a lift, from every standing, whoever is taken."""

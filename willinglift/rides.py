@@ -1,0 +1,142 @@
+"""A standing that goes on move by move, with its sums at hand, so that no move costs a look at everybody."""
+
+from willinglift.checks import is_built_move
+from willinglift.houses import unbounded
+from willinglift.sums import halves, number_of, tops_of, wanted_through
+
+
+class Ride:
+    """A standing that is changed by moves; crowds has for each floor the dict from wants to how many stand there."""
+
+    def __init__(self, standing):
+        self.house = standing.house
+        self.lift = standing.lift
+        self.crowds = [{} for _ in range(standing.house.floors)]
+        for stand, want, many in standing.groups:
+            self.crowds[stand][want] = many
+        self.up, self.down = wanted_through(standing)
+        self.tops = tops_of(standing)
+
+    def standing(self):
+        """The Standing of now."""
+        crowd = {(stand, want): self.crowds[stand][want]
+                 for stand in range(self.house.floors) for want in self.crowds[stand]}
+        return unbounded(self.house, self.lift, crowd)
+
+    def is_done(self):
+        """Whether the lift is on the ground floor and all are home."""
+        return self.lift == 0 and sum(self.tops) == 0
+
+    def leads(self, way):
+        """Whether a way leads to a floor of the house."""
+        return 0 <= self.lift + way < self.house.floors
+
+    def fits(self, thing):
+        """Whether a thing is a move."""
+        return is_fit(self.house, self.lift, self.crowds[self.lift], thing)
+
+    def make(self, move):
+        """Makes a move."""
+        way, aboard = move
+        for want, many in aboard:
+            self.put(self.lift, want, -many)
+            self.put(self.lift + way, want, many)
+            self.count_carried(way, want, many)
+        self.lift += way
+
+    def put(self, floor, want, many):
+        """Puts so many more people on a floor who want another one, or fewer."""
+        crowd = self.crowds[floor]
+        crowd[want] = crowd.get(want, 0) + many
+        if crowd[want] == 0:
+            del crowd[want]
+        if floor != want:
+            self.tops[max(floor, want)] += many
+
+    def count_carried(self, way, want, many):
+        """Reckons what is wanted through the gap that people with this want are carried through."""
+        gap = self.gap(way)
+        if way == 1 and want > self.lift:
+            self.up[gap] -= many
+        elif way == 1:
+            self.down[gap] += many
+        elif want < self.lift:
+            self.down[gap] -= many
+        else:
+            self.up[gap] += many
+
+    def gap(self, way):
+        """The gap that a move this way goes through."""
+        return min(self.lift, self.lift + way)
+
+    def number(self, gap):
+        """The number of a gap."""
+        left = sum(self.tops[gap + 1:]) > 0
+        return number_of(self.house.room, self.up[gap], self.down[gap], left, self.lift > gap)
+
+    def rest(self):
+        """The sum of the numbers of all gaps."""
+        return sum([self.number(gap) for gap in range(self.house.floors - 1)])
+
+    def keen(self, way):
+        """How many on the floor of the lift want this way."""
+        crowd = self.crowds[self.lift]
+        return sum([many for want, many in crowd.items() if (want - self.lift) * way > 0])
+
+    def needs(self, way):
+        """The pair (least, most) as needs tells it, None if each move this way is silly, or there is none."""
+        if not self.leads(way):
+            return None
+        keen = self.keen(way)
+        room = self.house.room
+        gap = self.gap(way)
+        ups, downs = halves(self.number(gap))
+        if way == 1:
+            least, most = self.up[gap] - room * (ups - 1), room * ups - self.down[gap]
+        elif downs == 1 and sum(self.tops[self.lift:]) > keen:
+            # Someone is left above, so that the lift has to come up again.
+            return None
+        else:
+            least, most = self.down[gap] - room * (downs - 1), room * (downs - 1) - self.up[gap]
+        if least > min(keen, room):
+            return None
+        return max(0, least), most
+
+    def is_wise(self, move):
+        """Whether a move is not silly."""
+        way, aboard = move
+        bounds = self.needs(way)
+        if bounds is None:
+            return False
+        least, most = bounds
+        forward = sum([many for want, many in aboard if (want - self.lift) * way > 0])
+        return forward >= least and sum([many for _, many in aboard]) - forward <= most
+
+    def farthest(self, way):
+        """Aboard for those who want this way, the farthest wishes first, as many as there is room for."""
+        crowd = self.crowds[self.lift]
+        room = self.house.room
+        aboard = []
+        for want in sorted(crowd)[::-way]:
+            if (want - self.lift) * way > 0 and room > 0:
+                many = min(room, crowd[want])
+                aboard.append((want, many))
+                room -= many
+        return tuple(sorted(aboard))
+
+    def willing(self):
+        """A move that is not silly, None if all is done."""
+        for way in (-1, 1):
+            if self.needs(way) is not None:
+                return way, self.farthest(way)
+        return None
+
+
+def is_fit(house, lift, crowd, thing):
+    """Whether a thing is a move of a lift on a floor where this crowd stands."""
+    if not is_built_move(thing):
+        return False
+    way, aboard = thing
+    if not 0 <= lift + way < house.floors or sum([many for _, many in aboard]) > house.room:
+        return False
+    return all([many <= crowd.get(want, 0) for want, many in aboard])
