@@ -9,6 +9,14 @@ FUNCTIONS = {
               "behind(standing, moves)", "all_moves(standing)"],
     "logs": ["is_log(standing, thing)", "behind_log(standing, log)", "length_of(log)", "written_out(log)",
              "as_log(moves)"],
+    "gaps": ["counts(standing, gap)", "number(standing, gap)", "numbers(standing)", "rest(standing)",
+             "crossings(standing, gap)", "spare(standing, gap)", "enough(standing, many)"],
+    "silly": ["change(standing, move)", "silly_in(standing, moves)", "many_silly(standing, log)"],
+    "wise": ["needs(standing, way)", "ways(standing)", "wise_moves(standing)", "willing_move(standing)"],
+    "plans": ["plan(standing)", "mended(standing, moves)", "led(standing, chooser, most)",
+              "willing(standing, chooser)"],
+    "counting": ["many_plans(standing)", "plan_at(standing, index)", "plan_index(standing, plan)",
+                 "first_moves(standing)", "settled_after(standing, floor)", "soonest_settled(standing, floor)"],
 }
 CLASSES = {"houses": ["House(floors, room)", "Standing(house, lift, groups)"]}
 

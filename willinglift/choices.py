@@ -17,8 +17,13 @@ def scale_of(totals):
 
 def aboard_of(scale, choice):
     """The ascending tuple of pairs (want, many) of a choice that is told by its number."""
-    taken = [(want, choice // unit % size) for want, unit, size in scale]
-    return tuple([(want, many) for want, many in taken if many > 0])
+    left = choice
+    taken = []
+    for want, unit, _ in scale[::-1]:
+        if left >= unit:
+            taken.append((want, left // unit))
+            left = left % unit
+    return tuple(taken[::-1])
 
 
 def choice_of(scale, aboard):

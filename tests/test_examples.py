@@ -1,0 +1,35 @@
+"""The examples of the document, word for word."""
+
+import unittest
+
+from willinglift.gaps import counts, numbers, rest, spare
+from willinglift.houses import House, Standing
+from willinglift.plans import plan
+from willinglift.silly import change
+from willinglift.wise import needs
+
+first = Standing(House(3, 2), 0, ((0, 2, 3), (1, 2, 1), (2, 0, 1), (2, 1, 1)))
+second = Standing(House(3, 1), 1, ((0, 2, 1), (2, 0, 1)))
+
+
+class Examples(unittest.TestCase):
+    def test_e01(self):
+        self.assertEqual((counts(first, 0), counts(first, 1), numbers(first), rest(first)),
+                         ((3, 1, True), (4, 2, True), (4, 4), 8))
+
+    def test_e02(self):
+        self.assertEqual((numbers(second), rest(second), len(plan(second))), ((3, 2), 5, 5))
+
+    def test_e03(self):
+        self.assertEqual((change(first, (1, ((2, 2),))), change(first, (1, ((2, 1),))), change(first, (1, ()))),
+                         (-1, -1, 1))
+
+    def test_e04(self):
+        self.assertEqual((needs(first, 1), needs(second, 1), needs(second, -1)), ((1, 3), None, (0, 0)))
+
+    def test_e05(self):
+        self.assertEqual((spare(first, 0), spare(first, 1)), ((1, 3), (0, 2)))
+
+
+if __name__ == "__main__":
+    unittest.main()
