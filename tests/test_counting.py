@@ -3,14 +3,15 @@ import time
 import unittest
 from collections import Counter
 
-from tests.small import STANDING, STRANGERS, slow_behind, slow_plans, slow_rests, small_standings
+from tests.small import STANDING, STRANGERS, key_of, slow_behind, slow_plans, slow_rests, small_standings
 from willinglift.counting import (first_moves, many_plans, plan_at, plan_index, settled_after, soonest_settled)
 from willinglift.errors import BadFloor, BadNumber, NoPlan, TooMany
 from willinglift.gaps import rest
 from willinglift.houses import House, Standing, is_done, standing_of
-from willinglift.moves import is_plan
+from willinglift.moves import is_plan, moved
 from willinglift.plans import plan
 from willinglift.silly import silly_in
+from willinglift.wise import wise_moves
 
 UP, DOWN = (1, ()), (-1, ())
 DONE = Standing(House(3, 2), 0, ((0, 0, 4), (2, 2, 1)))
@@ -109,6 +110,37 @@ class Listed(unittest.TestCase):
             self.assertIsInstance(one, list)
             one.append(None)
             self.assertNotIn(None, call())
+
+
+class Crowds(unittest.TestCase):
+    """Greater groups, for which all standings are found by wise moves, one behind another."""
+
+    def counted(self, standing, known):
+        if key_of(standing) not in known:
+            behind_each = [self.counted(moved(standing, move), known) for move in wise_moves(standing)]
+            known[key_of(standing)] = sum(behind_each) if behind_each else 1
+        return known[key_of(standing)]
+
+    def test_against_wise_moves(self):
+        source = random.Random(12)
+        for _ in range(120):
+            house = House(source.randint(2, 4), source.randint(1, 4))
+            rows = [(floor, floor, source.choice((1, 30, 10 ** 30))) for floor in range(house.floors)]
+            rows = source.sample(rows, source.randint(0, 2))
+            rows += [(source.randrange(house.floors), source.randrange(house.floors), source.randint(1, 4))
+                     for _ in range(3)]
+            standing = standing_of(house, source.randrange(house.floors), rows)
+            known = {}
+            try:
+                many = many_plans(standing)
+            except TooMany:
+                continue
+            if many < 10 ** 5:
+                self.assertEqual(many, self.counted(standing, known))
+                self.assertEqual(first_moves(standing), [(move, known[key_of(moved(standing, move))])
+                                                         for move in wise_moves(standing)])
+                index = source.randrange(many)
+                self.assertEqual(plan_index(standing, plan_at(standing, index)), index)
 
 
 class Refused(unittest.TestCase):

@@ -2,7 +2,7 @@ import time
 import unittest
 
 from tests.small import STANDING, STRANGERS, slow_behind, slow_moves, small_standings
-from willinglift.errors import BadMove, BadMoves, TooMany
+from willinglift.errors import BadGroups, BadMove, BadMoves, TooMany
 from willinglift.houses import House, Standing, is_done, standing_of
 from willinglift.moves import all_moves, behind, is_move, is_plan, moved
 
@@ -39,6 +39,17 @@ class Single(unittest.TestCase):
             self.refused(MIDDLE, (1, (thing,)))
             self.refused(MIDDLE, (1, ((thing, 1),)))
             self.refused(MIDDLE, (1, ((0, thing),)))
+
+    def test_refused_ones_change_nothing(self):
+        groups = MIDDLE.groups
+        self.refused(MIDDLE, (1, ((0, 1), (1, 1), (2, 1))))
+        with self.assertRaises(BadMoves):
+            behind(MIDDLE, ((1, ((2, 1),)), (-1, ()), None))
+        self.assertEqual(MIDDLE, Standing(House(3, 2), 1, groups))
+        rows = [(0, 1, 1), (0, 1, 2), None]
+        with self.assertRaises(BadGroups):
+            standing_of(MIDDLE.house, 0, rows)
+        self.assertEqual(rows, [(0, 1, 1), (0, 1, 2), None])
 
     def test_lowest_and_highest_floor(self):
         low, high = Standing(House(2, 1), 0, ((0, 1, 1),)), Standing(House(2, 1), 1, ((1, 1, 1),))

@@ -66,12 +66,18 @@ def is_bounded_groups(floors, thing):
     return True
 
 
-def unbounded(house, lift, crowd):
-    """The Standing of a dict from pairs (stand, want) to how many they are, perhaps none."""
+def unbounded(house, lift, groups):
+    """The Standing of ascending groups, however many and great they are."""
     standing = Standing(house, lift, ())
     # The constructor's bounds do not hold here, so that groups are set behind it.
-    standing.groups = tuple(sorted([(stand, want, many) for (stand, want), many in crowd.items() if many > 0]))
+    standing.groups = groups
     return standing
+
+
+def gathered(house, lift, crowd):
+    """The Standing of a dict from pairs (stand, want) to how many they are, perhaps none."""
+    groups = [(stand, want, many) for (stand, want), many in crowd.items() if many > 0]
+    return unbounded(house, lift, tuple(sorted(groups)))
 
 
 def crowd_of(standing):
@@ -84,7 +90,7 @@ def changed(standing, lift, changes):
     crowd = crowd_of(standing)
     for pair, many in changes.items():
         crowd[pair] = crowd.get(pair, 0) + many
-    return unbounded(standing.house, lift, crowd)
+    return gathered(standing.house, lift, crowd)
 
 
 def standing_of(house, lift, rows):
@@ -99,7 +105,7 @@ def standing_of(house, lift, rows):
             raise BadGroups(index)
         pair = group[:2]
         crowd[pair] = crowd.get(pair, 0) + group[2]
-    return unbounded(house, lift, crowd)
+    return gathered(house, lift, crowd)
 
 
 def is_done(standing):
@@ -123,5 +129,5 @@ def standing_at(standing, floor):
 
 def restless(standing):
     """The Standing without those who are home."""
-    away = {(stand, want): many for stand, want, many in standing.groups if stand != want}
+    away = tuple([group for group in standing.groups if group[0] != group[1]])
     return unbounded(standing.house, standing.lift, away)

@@ -109,12 +109,13 @@ class Tracer:
     def run_rounds(self, path, whole, many, log):
         """Puts rounds behind a Stretch, and tells whether the house lets them."""
         # Rounds that lead to another floor soon leave the house, so that this does not go on for long.
-        for made in range(many):
+        for _ in range(many):
             once = self.stretch(path, whole.lift, log)
             if once is None:
                 return False
             if once.lift == whole.lift:
-                whole.follow_rounds(once, many - made)
+                # All rounds of a log lead as far, so that this is the first one.
+                whole.follow_rounds(once, many)
                 return True
             whole.follow(once.lift, once.changes, once.asks)
         return True

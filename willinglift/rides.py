@@ -19,9 +19,8 @@ class Ride:
 
     def standing(self):
         """The Standing of now."""
-        crowd = {(stand, want): self.crowds[stand][want]
-                 for stand in range(self.house.floors) for want in self.crowds[stand]}
-        return unbounded(self.house, self.lift, crowd)
+        groups = [(stand, want, crowd[want]) for stand, crowd in enumerate(self.crowds) for want in sorted(crowd)]
+        return unbounded(self.house, self.lift, tuple(groups))
 
     def is_done(self):
         """Whether the lift is on the ground floor and all are home."""

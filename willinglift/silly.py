@@ -1,8 +1,8 @@
 """Silly moves: those that raise the least number of moves instead of lowering it."""
 
-from willinglift.errors import BadLog, BadMove, BadMoves
+from willinglift.errors import BadMove, BadMoves
 from willinglift.gaps import rest
-from willinglift.logs import behind_log, is_log, length_of
+from willinglift.logs import behind_log, length_of
 from willinglift.moves import is_move, shifted
 from willinglift.rides import Ride
 
@@ -31,8 +31,6 @@ def silly_in(standing, moves):
 
 def many_silly(standing, log):
     """How many moves of a log are silly."""
-    if not is_log(standing, log):
-        raise BadLog()
     fallen = rest(standing) - rest(behind_log(standing, log))
     # Each move that is not silly lowers rest by one, and each silly one raises it by one.
     return (length_of(log) - fallen) // 2
