@@ -44,12 +44,13 @@ def key_of(standing):
     return standing.lift, standing.groups
 
 
-def slow_rests(house, wants):
-    """The dict from (lift, groups), for all standings with these wishes, to the least numbers of moves of plans.
+def slow_rests(house, wants, end=0):
+    """The dict from (lift, groups), for all standings with these wishes, to the least numbers of moves behind which
+    all are home and the lift is on the end.
 
     Each move can be gone back, so that the search begins where all is done.
     """
-    done = standing_of(house, 0, [(want, want, 1) for want in wants])
+    done = standing_of(house, end, [(want, want, 1) for want in wants])
     rests = {key_of(done): 0}
     layer = [done]
     while layer:
@@ -83,6 +84,18 @@ def slow_plans(standing, rests):
         if rests[key_of(other)] == rest - 1:
             plans.extend((move,) + plan for plan in slow_plans(other, rests))
     return plans
+
+
+def great_standing(source, many, room, floors=40, groups=400):
+    """A Standing with so many groups, each of at most so many people."""
+    pairs = source.sample([(stand, want) for stand in range(floors) for want in range(floors)], groups)
+    rows = tuple(sorted((stand, want, source.randint(1, many)) for stand, want in pairs))
+    return Standing(House(floors, room), source.randrange(floors), rows)
+
+
+def at_lift(standing, lift):
+    """The same Standing with the lift on another floor."""
+    return standing_of(standing.house, lift, standing.groups)
 
 
 def nested(depth, kind):

@@ -2,9 +2,11 @@
 
 import unittest
 
+from willinglift.ends import rest_to
 from willinglift.gaps import counts, numbers, rest, spare
 from willinglift.houses import House, Standing
 from willinglift.plans import plan
+from willinglift.rooms import loads, rest_for, rooms_for
 from willinglift.silly import change
 from willinglift.wise import needs
 
@@ -29,6 +31,12 @@ class Examples(unittest.TestCase):
 
     def test_e05(self):
         self.assertEqual((spare(first, 0), spare(first, 1)), ((1, 3), (0, 2)))
+
+    def test_e06(self):
+        self.assertEqual(rest_to(Standing(House(2, 1), 0, ((0, 1, 1),)), 1), 1)
+
+    def test_e07(self):
+        self.assertEqual((loads(first), rest_for(first, 1), rooms_for(first, 8)), ((3, 4), 14, (2, 2)))
 
 
 if __name__ == "__main__":

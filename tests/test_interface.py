@@ -17,6 +17,11 @@ FUNCTIONS = {
               "willing(standing, chooser)"],
     "counting": ["many_plans(standing)", "plan_at(standing, index)", "plan_index(standing, plan)",
                  "first_moves(standing)", "settled_after(standing, floor)", "soonest_settled(standing, floor)"],
+    "rules": ["swept(standing)", "carried(standing)", "contest(standing, choosers, most)"],
+    "ends": ["turned(standing)", "rest_to(standing, end)", "plan_to(standing, end)"],
+    "prices": ["through(standing, moves)", "bill(standing, prices, log)", "least_bill(standing, prices)"],
+    "rooms": ["rest_for(standing, room)", "least_room(standing, many)", "rooms_for(standing, many)", "loads(standing)",
+              "unlike_room(one, other)", "loads_back(ask, most)", "standing_with(row)", "thinned(standing)"],
 }
 CLASSES = {"houses": ["House(floors, room)", "Standing(house, lift, groups)"]}
 

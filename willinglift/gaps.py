@@ -32,14 +32,18 @@ def number(standing, gap):
 
 def numbers(standing):
     """The tuple of the numbers of all gaps."""
-    room = standing.house.room
-    return tuple([number_of(room, up, down, left, standing.lift > gap)
-                  for gap, (up, down, left) in enumerate(counted(standing))])
+    return tuple(numbers_for(standing, standing.house.room))
+
+
+def numbers_for(standing, room):
+    """The list of the numbers of all gaps of the same standing in a house with another room."""
+    return [number_of(room, up, down, left, standing.lift > gap)
+            for gap, (up, down, left) in enumerate(counted(standing))]
 
 
 def rest(standing):
     """The least number of moves of a plan."""
-    return sum(list(numbers(standing)))
+    return sum(numbers_for(standing, standing.house.room))
 
 
 def crossings(standing, gap):

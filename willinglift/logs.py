@@ -13,27 +13,44 @@ MOST_MADE = 5000
 
 class Stretch:
     """What a part of a log does: where the lift is behind it, how many more each pair (stand, want) is then,
-    and how many each has to be ahead of it, so that all its moves can be made."""
+    how many each has to be ahead of it, so that all its moves can be made, and how often each pair (gap, way)
+    of a gap that is gone through and a way comes."""
 
     def __init__(self, lift):
         self.lift = lift
         self.changes = {}
         self.asks = {}
+        self.passes = {}
 
-    def follow(self, lift, rises, wants):
-        """Puts a part behind this one that leads to a floor, with what it changes and asks for."""
-        self.lift = lift
-        for pair, many in wants.items():
+    def follow(self, part):
+        """Puts a part behind this one."""
+        self.lift = part.lift
+        for pair, many in part.asks.items():
             self.asks[pair] = max(self.asks.get(pair, 0), many - self.changes.get(pair, 0))
-        for pair, many in rises.items():
+        for pair, many in part.changes.items():
             self.changes[pair] = self.changes.get(pair, 0) + many
+        for step, many in part.passes.items():
+            self.passes[step] = self.passes.get(step, 0) + many
 
-    def follow_rounds(self, once, many):
-        """Puts so many rounds behind this, of a part that leads back to the floor where it begins."""
-        rises = {pair: many * rise for pair, rise in once.changes.items()}
-        # A pair that shrinks with each round has to last until the last one.
-        wants = {pair: ask + (many - 1) * max(0, -once.changes.get(pair, 0)) for pair, ask in once.asks.items()}
-        self.follow(once.lift, rises, wants)
+
+def single(lift, move):
+    """The Stretch of one move from a floor on."""
+    way, aboard = move
+    step = Stretch(lift + way)
+    step.changes = carried_by(lift, way, aboard)
+    step.asks = {(lift, want): many for want, many in aboard}
+    step.passes = {(min(lift, lift + way), way): 1}
+    return step
+
+
+def repeated(once, many):
+    """The Stretch of so many rounds of a part that leads back to the floor where it begins."""
+    rounds = Stretch(once.lift)
+    rounds.changes = {pair: many * rise for pair, rise in once.changes.items()}
+    # A pair that shrinks with each round has to last until the last one.
+    rounds.asks = {pair: ask + (many - 1) * max(0, -once.changes.get(pair, 0)) for pair, ask in once.asks.items()}
+    rounds.passes = {step: many * often for step, often in once.passes.items()}
+    return rounds
 
 
 def is_rounds(thing):
@@ -102,8 +119,7 @@ class Tracer:
         lift = whole.lift
         if not 0 <= lift + way < self.house.floors or sum([many for _, many in aboard]) > self.house.room:
             return False
-        asks = {(lift, want): many for want, many in aboard}
-        whole.follow(lift + way, carried_by(lift, way, aboard), asks)
+        whole.follow(single(lift, move))
         return True
 
     def run_rounds(self, path, whole, many, log):
@@ -115,9 +131,9 @@ class Tracer:
                 return False
             if once.lift == whole.lift:
                 # All rounds of a log lead as far, so that this is the first one.
-                whole.follow_rounds(once, many)
+                whole.follow(repeated(once, many))
                 return True
-            whole.follow(once.lift, once.changes, once.asks)
+            whole.follow(once)
         return True
 
 

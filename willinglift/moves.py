@@ -71,13 +71,18 @@ def stop_of(ride, moves):
     return None
 
 
-def behind(standing, moves):
-    """The Standing behind moves."""
+def check_moves(standing, moves):
+    """Refuses what is no moves, and gives the Ride behind them."""
     ride = Ride(standing)
     stop = stop_of(ride, moves)
     if stop is not None:
         raise BadMoves(stop)
-    return ride.standing()
+    return ride
+
+
+def behind(standing, moves):
+    """The Standing behind moves."""
+    return check_moves(standing, moves).standing()
 
 
 def is_plan(standing, thing):

@@ -26,6 +26,10 @@ class Ride:
         """Whether the lift is on the ground floor and all are home."""
         return self.lift == 0 and sum(self.tops) == 0
 
+    def is_left_above(self):
+        """Whether somebody who is not home stands or wants above the lift."""
+        return sum(self.tops[self.lift + 1:]) > 0
+
     def leads(self, way):
         """Whether a way leads to a floor of the house."""
         return 0 <= self.lift + way < self.house.floors
