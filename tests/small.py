@@ -1,6 +1,7 @@
 """What the tests share: small standings, slow ways to reckon that are told another way, and things of every kind."""
 
-from itertools import combinations_with_replacement, product
+from collections import Counter
+from itertools import combinations_with_replacement, permutations, product
 
 from willinglift.houses import House, Standing, standing_of
 
@@ -91,6 +92,21 @@ def great_standing(source, many, room, floors=40, groups=400):
     pairs = source.sample([(stand, want) for stand in range(floors) for want in range(floors)], groups)
     rows = tuple(sorted((stand, want, source.randint(1, many)) for stand, want in pairs))
     return Standing(House(floors, room), source.randrange(floors), rows)
+
+
+def slow_wishes(house, stands, wants):
+    """The list of all standings with so many who stand on each floor and so many who want it, ascending by groups."""
+    standers = [floor for floor, many in enumerate(stands) for _ in range(many)]
+    wishes = [floor for floor, many in enumerate(wants) for _ in range(many)]
+    found = {tuple(sorted((*pair, many) for pair, many in Counter(zip(standers, order)).items()))
+             for order in permutations(wishes)}
+    return [Standing(house, 0, groups) for groups in sorted(found)]
+
+
+def small_counts(floors, most):
+    """All pairs of counts of a house with so many floors and at most so many people."""
+    rows = [row for row in product(range(most + 1), repeat=floors) if sum(row) <= most]
+    return [(stands, wants) for stands in rows for wants in rows if sum(stands) == sum(wants)]
 
 
 def at_lift(standing, lift):

@@ -5,10 +5,12 @@ import unittest
 from willinglift.ends import rest_to
 from willinglift.gaps import counts, numbers, rest, spare
 from willinglift.houses import House, Standing
+from willinglift.news import free_seats, raised
 from willinglift.plans import plan
 from willinglift.rooms import loads, rest_for, rooms_for
 from willinglift.silly import change
 from willinglift.wise import needs
+from willinglift.wishes import least_wishes, most_wishes
 
 first = Standing(House(3, 2), 0, ((0, 2, 3), (1, 2, 1), (2, 0, 1), (2, 1, 1)))
 second = Standing(House(3, 1), 1, ((0, 2, 1), (2, 0, 1)))
@@ -37,6 +39,13 @@ class Examples(unittest.TestCase):
 
     def test_e07(self):
         self.assertEqual((loads(first), rest_for(first, 1), rooms_for(first, 8)), ((3, 4), 14, (2, 2)))
+
+    def test_e08(self):
+        self.assertEqual(least_wishes(House(3, 1), (1, 0, 1), (0, 1, 1)).groups, ((0, 1, 1), (2, 2, 1)))
+        self.assertEqual(most_wishes(House(3, 1), (1, 0, 1), (0, 1, 1)).groups, ((0, 2, 1), (2, 1, 1)))
+
+    def test_e09(self):
+        self.assertEqual((raised(first, (0, 1, 1)), free_seats(first, 0, 1), free_seats(first, 0, 2)), ((0, 0), 1, 0))
 
 
 if __name__ == "__main__":

@@ -22,6 +22,15 @@ FUNCTIONS = {
     "prices": ["through(standing, moves)", "bill(standing, prices, log)", "least_bill(standing, prices)"],
     "rooms": ["rest_for(standing, room)", "least_room(standing, many)", "rooms_for(standing, many)", "loads(standing)",
               "unlike_room(one, other)", "loads_back(ask, most)", "standing_with(row)", "thinned(standing)"],
+    "wishes": ["is_wishes(house, stands, wants, thing)", "least_wishes(house, stands, wants)",
+               "most_wishes(house, stands, wants)", "travel_bounds(house, stands, wants)",
+               "pair_bounds(house, stands, wants, stand, want)", "is_sure(house, stands, wants, many)",
+               "wishes_of(house, stands, wants, many)", "bounds_with(house, stands, wants, facts)"],
+    "chances": ["gap_chances(house, stands, wants, gap)", "mean_rest(house, stands, wants)"],
+    "news": ["joined(standing, group)", "raised(standing, group)", "with_news(standing, chooser, news)",
+             "free_seats(standing, stand, want)"],
+    "stays": ["most_held(standing, moves)", "set_down(standing, moves)", "fewest_set_down(standing)"],
+    "peaks": ["most_held_ever(standing)", "least_peak(standing, floor)"],
 }
 CLASSES = {"houses": ["House(floors, room)", "Standing(house, lift, groups)"]}
 

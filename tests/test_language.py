@@ -207,7 +207,8 @@ class Expressions(unittest.TestCase):
         own = own_names(ast.FunctionDef) | own_names(ast.ClassDef)
         for path, tree in trees():
             for function in [node for node in ast.walk(tree) if isinstance(node, ast.FunctionDef)]:
-                known = own | BUILTINS | {arg.arg for arg in function.args.args}
+                library = {name for names in LIBRARY.values() for name in names}
+                known = own | BUILTINS | library | {arg.arg for arg in function.args.args}
                 for node in ast.walk(function):
                     if isinstance(node, ast.Call) and isinstance(node.func, ast.Name):
                         self.assertIn(node.func.id, known, path)

@@ -141,4 +141,4 @@ def settled_plan(web, trail, tails):
     path = list(trail)
     while web.nexts[path[-1]]:
         path.append([other for other in web.nexts[path[-1]] if tails[other]][0])
-    return tuple([web.move_to(at, other) for at, other in zip(path, path[1:])])
+    return web.moves_along(path)

@@ -120,6 +120,14 @@ def people(standing):
     return sum([group[2] for group in standing.groups])
 
 
+def held_in(standing):
+    """The list of how many people stand on each floor."""
+    held = [0] * standing.house.floors
+    for stand, _, many in standing.groups:
+        held[stand] += many
+    return held
+
+
 def standing_at(standing, floor):
     """The dict from the floors that people on a floor want to how many they are."""
     if not is_floor(standing.house, floor):

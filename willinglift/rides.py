@@ -47,6 +47,15 @@ class Ride:
             self.count_carried(way, want, many)
         self.lift += way
 
+    def take_in(self, group):
+        """Lets a group join."""
+        stand, want, many = group
+        self.put(stand, want, many)
+        for gap in range(stand, want):
+            self.up[gap] += many
+        for gap in range(want, stand):
+            self.down[gap] += many
+
     def put(self, floor, want, many):
         """Puts so many more people on a floor who want another one, or fewer."""
         crowd = self.crowds[floor]

@@ -4,10 +4,10 @@ from willinglift.checks import is_between, is_from
 from willinglift.errors import BadAnswer, BadLoads, BadNumber, BadRoom
 from willinglift.gaps import counted, numbers_for
 from willinglift.grounds import check_ground
-from willinglift.houses import MOST_FLOORS, MOST_PEOPLE, House, Standing, people, unbounded
+from willinglift.houses import MOST_PEOPLE, House, Standing, people, unbounded
 from willinglift.sums import trips
 
-MOST_LOADS = MOST_FLOORS - 1
+MOST_LOADS = 39
 
 
 def rest_for(standing, room):

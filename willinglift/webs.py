@@ -86,6 +86,10 @@ class Web:
         choice = (self.codes[other] - self.codes[at] - way) // self.stride(lift, way)
         return way, aboard_of(self.scale, choice)
 
+    def moves_along(self, path):
+        """The moves that lead from each standing of a row of numbers to the next."""
+        return tuple([self.move_to(at, other) for at, other in zip(path, path[1:])])
+
     def place_behind(self, at, move):
         """The number of the standing behind a move that is not silly."""
         way, aboard = move
