@@ -139,6 +139,15 @@ class Made(unittest.TestCase):
         self.reaches(standing, (times(HUGE, (1, ((1, 1),)), (-1, ((1, 1),))), TRIP[0]), 1, [(1, 1, 1)])
         self.refused(standing, (times(2, TRIP[0], DOWN),))
 
+    def test_who_grows_more_has_to_be_there_at_first(self):
+        # Each round brings one more of those down whom it takes up.
+        trip = ((1, ((1, 1),)), (-1, ((1, 2),)))
+        for many in (1, 2, 3, 30):
+            log = (times(many, *trip),)
+            self.refused(Standing(House(2, 2), 0, ((1, 1, 40),)), log)
+            self.reaches(Standing(House(2, 2), 0, ((0, 1, 1), (1, 1, many))), log, 0, ((0, 1, many + 1),))
+            self.refused(Standing(House(2, 2), 0, ((0, 1, 1), (1, 1, many - 1)) if many > 1 else ((0, 1, 1),)), log)
+
     def test_enormous(self):
         room = 10 ** 12
         standing = standing_of(House(3, room), 0, [(0, 2, HUGE * room), (2, 0, HUGE)])

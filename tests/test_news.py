@@ -8,7 +8,8 @@ from willinglift.gaps import numbers, rest
 from willinglift.houses import House, Standing, is_done, people, standing_of
 from willinglift.news import free_seats, joined, raised, with_news
 from willinglift.plans import led
-from willinglift.wise import willing_move
+from willinglift.rides import Ride
+from willinglift.wise import needs, willing_move
 
 UP, DOWN = (1, ()), (-1, ())
 GREAT = 10 ** 30
@@ -29,6 +30,17 @@ class Joined(unittest.TestCase):
         for standing in small_standings(3, 2, 3):
             for group in all_groups(3, (1, 3)):
                 self.assertEqual(joined(standing, group), slow_joined(standing, group))
+
+    def test_a_ride_goes_on_with_its_sums(self):
+        for standing in small_standings(3, 2, 2):
+            for group in all_groups(3, (1, 3)):
+                ride = Ride(standing)
+                ride.take_in(group)
+                later = slow_joined(standing, group)
+                self.assertEqual(ride.standing(), later)
+                self.assertEqual(ride.rest(), rest(later))
+                self.assertEqual(ride.is_done(), is_done(later))
+                self.assertEqual([ride.needs(way) for way in (1, -1)], [needs(later, way) for way in (1, -1)])
 
     def test_pairs(self):
         self.assertEqual(joined(STANDING, (0, 1, 5)).groups, ((0, 1, 5), (0, 2, 3), (1, 2, 1)))

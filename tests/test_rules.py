@@ -97,6 +97,10 @@ class Rules(unittest.TestCase):
             few = Standing(standing.house, standing.lift, standing.groups[::8])
             self.assertEqual(swept(standing), Followed(standing).sweep())
             self.check(few)
+        near = [(stand, want) for stand in range(40) for want in range(40) if abs(stand - want) <= 5]
+        rows = [(*pair, source.randint(1, 9)) for pair in source.sample(near, 400)]
+        for room in (9, 10 ** 12):
+            self.check(Standing(House(40, room), 25, tuple(sorted(rows))))
         self.assertLess(time.perf_counter() - start, 20)
 
     def test_by_hand(self):
