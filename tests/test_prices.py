@@ -128,7 +128,8 @@ class Bills(unittest.TestCase):
             log = self.random_log(source, 3)
             if is_log(standing, log) and length_of(log) <= 5000:
                 found += 1
-                prices = tuple((source.randint(0, 9), source.randint(0, GREAT)) for _ in range(standing.house.floors - 1))
+                prices = tuple((source.randint(0, 9), source.randint(0, GREAT))
+                               for _ in range(standing.house.floors - 1))
                 self.assertEqual(bill(standing, prices, log), slow_bill(standing, prices, written_out(log)))
 
     def random_log(self, source, depth):
