@@ -9,6 +9,7 @@ from willinglift.news import free_seats, raised
 from willinglift.plans import plan
 from willinglift.rooms import loads, rest_for, rooms_for
 from willinglift.silly import change
+from willinglift.strangers import judged
 from willinglift.wise import needs
 from willinglift.wishes import least_wishes, most_wishes
 
@@ -46,6 +47,10 @@ class Examples(unittest.TestCase):
 
     def test_e09(self):
         self.assertEqual((raised(first, (0, 1, 1)), free_seats(first, 0, 1), free_seats(first, 0, 2)), ((0, 0), 1, 0))
+
+    def test_e10(self):
+        self.assertEqual(judged(second, ((-1, ()), (1, ((2, 1),)), (1, ((2, 1),)), (-1, ((0, 1),)), (-1, ((0, 1),)))),
+                         ("least", 5))
 
 
 if __name__ == "__main__":

@@ -31,8 +31,22 @@ FUNCTIONS = {
              "free_seats(standing, stand, want)"],
     "stays": ["most_held(standing, moves)", "set_down(standing, moves)", "fewest_set_down(standing)"],
     "peaks": ["most_held_ever(standing)", "least_peak(standing, floor)"],
+    "strangers": ["judged(standing, thing)", "refuted(claim, house, most)", "few_moves(standing, many)"],
+    "seen": ["seen_plans(standing, seen)", "seen_plan(standing, seen)"],
+    "trees": ["is_tree_move(standing, thing)", "is_tree_plan(standing, thing)", "tree_moved(standing, move)"],
 }
-CLASSES = {"houses": ["House(floors, room)", "Standing(house, lift, groups)"]}
+CLASSES = {
+    "houses": ["House(floors, room)", "Standing(house, lift, groups)"],
+    "lifts": ["Lift(standing)"],
+    "trees": ["Tree(parents, room)", "TreeStanding(tree, lift, groups)"],
+}
+METHODS = {
+    "House": ["__eq__(self, other)"], "Standing": ["__eq__(self, other)"], "Tree": ["__eq__(self, other)"],
+    "TreeStanding": ["__eq__(self, other)"],
+    "Lift": ["go(self, way, aboard)", "join(self, group)", "finish(self)", "now(self)", "gone(self)", "silly(self)",
+             "rest(self)", "ways(self)", "saved(self)", "back(self)", "depth(self)", "copy(self)",
+             "trying(self, deed)"],
+}
 
 
 class Interface(unittest.TestCase):
@@ -53,7 +67,12 @@ class Interface(unittest.TestCase):
                 self.assertTrue(inspect.isclass(made))
                 self.assertEqual(f"{made.__name__}{inspect.signature(made)}", call)
                 self.assertEqual(made.__module__, place.__name__)
-                self.assertIn("__eq__", vars(made))
+                for method in METHODS[made.__name__]:
+                    # It stands in the class itself.
+                    function = vars(made)[method.split("(")[0]]
+                    self.assertTrue(inspect.isfunction(function))
+                    self.assertEqual(f"{function.__name__}{inspect.signature(function)}", method)
+                    self.assertEqual(function.__qualname__, f"{made.__name__}.{function.__name__}")
 
 
 if __name__ == "__main__":

@@ -18,10 +18,10 @@ BUILTINS = set("""len range enumerate zip min max sum abs sorted reversed int st
     isinstance ord repr any all divmod pow map iter next ValueError""".split())
 METHODS = set("""append clear copy count endswith extend find get index insert isalnum isalpha isdigit islower isspace
     isupper items join keys ljust lower lstrip partition pop remove replace reverse rfind rjust rpartition rsplit rstrip
-    setdefault split splitlines startswith strip update upper values zfill bit_length add discard""".split())
-BARRED = set("""type typing typing_extensions enum Enum IntEnum StrEnum Flag IntFlag Generic Protocol ABC ABCMeta
-    namedtuple NamedTuple TypedDict TYPE_CHECKING abstractmethod dataclass overload contextmanager register mro elements
-    open input law version_info with_traceback add_note""".split())
+    setdefault split splitlines startswith strip update upper values zfill bit_length add discard isascii""".split())
+BARRED_WORDS = set("""type typing typing_extensions enum Enum IntEnum StrEnum Flag IntFlag Generic Protocol ABC ABCMeta
+    namedtuple NamedTuple TypedDict TYPE_CHECKING abstractmethod dataclass overload contextmanager""".split())
+BARRED = BARRED_WORDS | set("register mro elements open input law version_info with_traceback add_note".split())
 NO_NAMES = set("""attrgetter breakpoint builtins compile copyright credits delattr dir eval exec exit gc globals help id
     importlib license locals methodcaller os quit super vars sys""".split())
 NO_ATTRIBUTES = set("""items keys values pop update append clear extend insert remove reverse setdefault sort args
@@ -155,7 +155,7 @@ class Names(unittest.TestCase):
                 if token.type == tokenize.STRING:
                     self.assertNotIn("%", token.string, path)
                     if token.start[0] not in docs:
-                        self.assertFalse(BARRED & set(token.string.strip("\"'").split()), path)
+                        self.assertFalse(BARRED_WORDS & set(token.string.strip("\"'").split()), path)
 
     def test_methods_and_attributes(self):
         attributes = set()
@@ -209,6 +209,9 @@ class Expressions(unittest.TestCase):
             for function in [node for node in ast.walk(tree) if isinstance(node, ast.FunctionDef)]:
                 library = {name for names in LIBRARY.values() for name in names}
                 known = own | BUILTINS | library | {arg.arg for arg in function.args.args}
+                # A function of a table is given a name first.
+                known |= {node.targets[0].id for node in ast.walk(function) if isinstance(node, ast.Assign)
+                          and isinstance(node.value, ast.Subscript) and isinstance(node.targets[0], ast.Name)}
                 for node in ast.walk(function):
                     if isinstance(node, ast.Call) and isinstance(node.func, ast.Name):
                         self.assertIn(node.func.id, known, path)
@@ -230,6 +233,37 @@ class Expressions(unittest.TestCase):
             if node.exc is not None:
                 self.assertIsInstance(node.exc, ast.Call, place)
                 self.assertIn(node.exc.func.id, errors, place)
+
+    def test_tries(self):
+        """Nothing is caught, and what goes on behind an error is simple."""
+        for place, node in nodes(ast.Try):
+            self.assertEqual((node.handlers, node.orelse), ([], []), place)
+            for row in node.finalbody:
+                self.assertIsInstance(row, ast.Assign, place)
+                for part in (*row.targets, row.value):
+                    self.assertIsInstance(part, (ast.Name, ast.Attribute), place)
+
+    def test_tables_are_read(self):
+        """What a file's own tables give is a function that is given a name, or a plain value."""
+        for path, tree in trees():
+            tables = {node.targets[0].id for node in tree.body
+                      if isinstance(node, ast.Assign) and isinstance(node.value, (ast.Dict, ast.List))}
+            read = {id(node.value) for node in ast.walk(tree) if isinstance(node, ast.Subscript)
+                    and isinstance(node.ctx, ast.Load)}
+            read |= {id(node.comparators[-1]) for node in ast.walk(tree) if isinstance(node, ast.Compare)}
+            for node in ast.walk(tree):
+                if isinstance(node, ast.Name) and node.id in tables and isinstance(node.ctx, ast.Load):
+                    self.assertIn(id(node), read, f"{path.name}:{node.lineno}")
+                if isinstance(node, ast.Call):
+                    self.assertIsInstance(node.func, (ast.Name, ast.Attribute), f"{path.name}:{node.lineno}")
+
+    def test_names_are_methods_or_attributes(self):
+        methods, attributes = set(), set()
+        for _, node in nodes(ast.ClassDef):
+            methods |= {part.name for part in node.body if isinstance(part, ast.FunctionDef)}
+            attributes |= {part.attr for part in ast.walk(node)
+                           if isinstance(part, ast.Attribute) and isinstance(part.ctx, ast.Store)}
+        self.assertEqual(methods & attributes, set())
 
     def test_views_are_iterated_at_once(self):
         for path, tree in trees():

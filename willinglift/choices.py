@@ -1,5 +1,7 @@
 """Who can be taken aboard: each choice is told by one number, so that many are soon listed and compared."""
 
+from willinglift.checks import is_built_aboard
+
 
 def scale_of(totals):
     """The rows (want, unit, size), of a dict from wants to numbers of people, by which choices are told.
@@ -32,6 +34,13 @@ def choice_of(scale, aboard):
     return sum([taken.get(want, 0) * unit for want, unit, _ in scale])
 
 
+def is_boarding(room, crowd, thing):
+    """Whether a thing tells who of a crowd can be aboard together."""
+    if not is_built_aboard(thing) or sum([many for _, many in thing]) > room:
+        return False
+    return all([many <= crowd.get(want, 0) for want, many in thing])
+
+
 def has_more(sizes, room, limit):
     """Whether there are more choices than the limit, of groups of these sizes."""
     ways = [1]
@@ -59,17 +68,30 @@ def widened(ways, most, room):
     return wide
 
 
-class Choices:
-    """The choices from a crowd in which so many want one way at least, and so many others come at most."""
+def choices_just(crowd, scale, many):
+    """The numbers of the choices that take just so many of a crowd."""
+    later = sum(list(crowd.values()))
+    begun = [(0, many)]
+    for want, unit, _ in scale:
+        if want in crowd:
+            later -= crowd[want]
+            wide = [(choice + taken * unit, left - taken) for choice, left in begun
+                    for taken in range(max(0, left - later), min(left, crowd[want]) + 1)]
+            begun = wide
+    return [choice for choice, left in begun if left == 0]
 
-    def __init__(self, crowd, scale, lift, way):
+
+class Choices:
+    """The choices from a crowd in which so many keen ones come at least, and so many others at most; keens tells of
+    each want whether it is keen."""
+
+    def __init__(self, crowd, scale, keens):
         rows = []
         later = 0
         for want, unit, _ in scale[::-1]:
             if want in crowd:
-                is_keen = (want - lift) * way > 0
-                rows.append((crowd[want], unit, is_keen, later))
-                later += crowd[want] if is_keen else 0
+                rows.append((crowd[want], unit, keens[want], later))
+                later += crowd[want] if keens[want] else 0
         self.rows = rows[::-1]
         self.found = []
 

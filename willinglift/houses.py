@@ -93,6 +93,35 @@ def changed(standing, lift, changes):
     return gathered(standing.house, lift, crowd)
 
 
+def crowds_in(places, groups):
+    """The list that has for each place the dict from wants to how many of the groups stand there."""
+    crowds = [{} for _ in range(places)]
+    for stand, want, many in groups:
+        crowds[stand][want] = many
+    return crowds
+
+
+def groups_in(crowds):
+    """The ascending tuple of the groups of such a list."""
+    return tuple([(stand, want, crowd[want]) for stand, crowd in enumerate(crowds) for want in sorted(crowd)])
+
+
+def wanted_by(crowds):
+    """The dict from the places that those of such a list want to how many want them."""
+    totals = {}
+    for crowd in crowds:
+        for want, many in crowd.items():
+            totals[want] = totals.get(want, 0) + many
+    return totals
+
+
+def add_to(crowd, want, many):
+    """Puts so many more people with a want into a crowd, or fewer."""
+    crowd[want] = crowd.get(want, 0) + many
+    if crowd[want] == 0:
+        del crowd[want]
+
+
 def standing_of(house, lift, rows):
     """The Standing of groups in any order, those of one pair added."""
     if not is_floor(house, lift):

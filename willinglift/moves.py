@@ -35,16 +35,19 @@ def carried_by(lift, way, aboard):
     return changes
 
 
-def ways_out(standing):
-    """The ascending list of the ways that lead to a floor of the house."""
-    return [way for way in (-1, 1) if 0 <= standing.lift + way < standing.house.floors]
+def ways_out(house, lift):
+    """The ascending list of the ways that lead from a floor to another one of the house."""
+    return [way for way in (-1, 1) if 0 <= lift + way < house.floors]
 
 
 def has_too_many(standing):
     """Whether there are more moves than are ever listed."""
-    crowd = standing_at(standing, standing.lift)
-    limit = MOST_LISTED // len(ways_out(standing))
-    return has_more(list(crowd.values()), standing.house.room, limit)
+    return is_too_great(standing.house, standing.lift, standing_at(standing, standing.lift))
+
+
+def is_too_great(house, lift, crowd):
+    """Whether there are more moves than are ever listed where this crowd stands on the floor of the lift."""
+    return has_more(list(crowd.values()), house.room, MOST_LISTED // len(ways_out(house, lift)))
 
 
 def all_moves(standing):
@@ -54,14 +57,14 @@ def all_moves(standing):
     crowd = standing_at(standing, standing.lift)
     scale = scale_of(crowd)
     room = standing.house.room
-    # Whom the two ways take is the same, so that it does not matter which is asked about.
-    choices = Choices(crowd, scale, standing.lift, 1).listed(room, 0, room)
+    choices = Choices(crowd, scale, [False] * standing.house.floors).listed(room, 0, room)
     aboards = [aboard_of(scale, choice) for choice in choices]
-    return [(way, aboard) for way in ways_out(standing) for aboard in aboards]
+    return [(way, aboard) for way in ways_out(standing.house, standing.lift) for aboard in aboards]
 
 
 def stop_of(ride, moves):
-    """Makes moves up to the first thing that is none: its index, -1 for what is no tuple, None if all are made."""
+    """Makes moves of a Ride, or a Walk, up to the first thing that is none: its index, -1 for what is no tuple, None
+    if all are made."""
     if not isinstance(moves, tuple):
         return -1
     for index, thing in enumerate(moves):

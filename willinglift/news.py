@@ -8,10 +8,15 @@ from willinglift.plans import MOST_PLANNED
 from willinglift.rides import Ride
 
 
+def check_group(house, group):
+    """Refuses what is no group that can join."""
+    if not is_group(house.floors, group) or group[2] > MOST_PEOPLE:
+        raise BadGroup()
+
+
 def joined(standing, group):
     """The Standing with a group more."""
-    if not is_group(standing.house.floors, group) or group[2] > MOST_PEOPLE:
-        raise BadGroup()
+    check_group(standing.house, group)
     stand, want, many = group
     return changed(standing, standing.lift, {(stand, want): many})
 

@@ -10,14 +10,13 @@ MOST_PLANNED = 5000
 
 def plan(standing):
     """A plan without silly moves."""
-    ride = Ride(standing)
-    if ride.rest() > MOST_PLANNED:
+    return tuple(finished(Ride(standing), MOST_PLANNED))
+
+
+def finished(ride, most):
+    """Makes moves that are not silly until all is done, and lists them; refuses more than so many."""
+    if ride.rest() > most:
         raise TooMany(MOST_PLANNED)
-    return tuple(finished(ride))
-
-
-def finished(ride):
-    """Makes moves that are not silly until all is done, and lists them."""
     moves = []
     move = ride.willing()
     while move is not None:
@@ -34,9 +33,7 @@ def mended(standing, moves):
     ride = Ride(standing)
     for move in kept:
         ride.make(move)
-    if len(kept) + ride.rest() > MOST_PLANNED:
-        raise TooMany(MOST_PLANNED)
-    return tuple(list(kept) + finished(ride))
+    return tuple(list(kept) + finished(ride, MOST_PLANNED - len(kept)))
 
 
 def led(standing, chooser, most):

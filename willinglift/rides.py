@@ -1,8 +1,9 @@
 """A standing that goes on move by move, with its sums at hand, so that no move costs a look at everybody."""
 
-from willinglift.checks import is_built_move
-from willinglift.houses import unbounded
-from willinglift.sums import halves, number_of, tops_of, wanted_through
+from willinglift.checks import is_tuple_of, is_way
+from willinglift.choices import is_boarding
+from willinglift.houses import add_to, crowds_in, groups_in, unbounded
+from willinglift.sums import bounds_back, bounds_out, is_within, number_of, tops_of, wanted_through
 
 
 class Ride:
@@ -11,16 +12,13 @@ class Ride:
     def __init__(self, standing):
         self.house = standing.house
         self.lift = standing.lift
-        self.crowds = [{} for _ in range(standing.house.floors)]
-        for stand, want, many in standing.groups:
-            self.crowds[stand][want] = many
+        self.crowds = crowds_in(standing.house.floors, standing.groups)
         self.up, self.down = wanted_through(standing)
         self.tops = tops_of(standing)
 
     def standing(self):
         """The Standing of now."""
-        groups = [(stand, want, crowd[want]) for stand, crowd in enumerate(self.crowds) for want in sorted(crowd)]
-        return unbounded(self.house, self.lift, tuple(groups))
+        return unbounded(self.house, self.lift, groups_in(self.crowds))
 
     def is_done(self):
         """Whether the lift is on the ground floor and all are home."""
@@ -48,7 +46,7 @@ class Ride:
         self.lift += way
 
     def take_in(self, group):
-        """Lets a group join."""
+        """Lets a group join, or leave if it is of fewer than no people."""
         stand, want, many = group
         self.put(stand, want, many)
         for gap in range(stand, want):
@@ -58,10 +56,7 @@ class Ride:
 
     def put(self, floor, want, many):
         """Puts so many more people on a floor who want another one, or fewer."""
-        crowd = self.crowds[floor]
-        crowd[want] = crowd.get(want, 0) + many
-        if crowd[want] == 0:
-            del crowd[want]
+        add_to(self.crowds[floor], want, many)
         if floor != want:
             self.tops[max(floor, want)] += many
 
@@ -90,6 +85,10 @@ class Ride:
         """The sum of the numbers of all gaps."""
         return sum([self.number(gap) for gap in range(self.house.floors - 1)])
 
+    def keens(self, way):
+        """The list of the flags whether who wants each floor, and stands on the floor of the lift, wants this way."""
+        return [(floor - self.lift) * way > 0 for floor in range(self.house.floors)]
+
     def keen(self, way):
         """How many on the floor of the lift want this way."""
         crowd = self.crowds[self.lift]
@@ -99,30 +98,20 @@ class Ride:
         """The pair (least, most) as needs tells it, None if each move this way is silly, or there is none."""
         if not self.leads(way):
             return None
-        keen = self.keen(way)
-        room = self.house.room
         gap = self.gap(way)
-        ups, downs = halves(self.number(gap))
+        number, up, down = self.number(gap), self.up[gap], self.down[gap]
         if way == 1:
-            least, most = self.up[gap] - room * (ups - 1), room * ups - self.down[gap]
-        elif downs == 1 and sum(self.tops[self.lift:]) > keen:
-            # Someone is left above, so that the lift has to come up again.
-            return None
-        else:
-            least, most = self.down[gap] - room * (downs - 1), room * (downs - 1) - self.up[gap]
-        if least > min(keen, room):
-            return None
-        return max(0, least), most
+            return bounds_out(self.house.room, number, up, down, self.keen(way))
+        return bounds_back(self.house.room, number, up, down, self.keen(way), sum(self.tops[self.lift:]))
+
+    def ways(self):
+        """The ascending tuple of the ways on which some move is not silly."""
+        return tuple([way for way in (-1, 1) if self.needs(way) is not None])
 
     def is_wise(self, move):
         """Whether a move is not silly."""
         way, aboard = move
-        bounds = self.needs(way)
-        if bounds is None:
-            return False
-        least, most = bounds
-        forward = sum([many for want, many in aboard if (want - self.lift) * way > 0])
-        return forward >= least and sum([many for _, many in aboard]) - forward <= most
+        return is_within(self.needs(way), self.keens(way), aboard)
 
     def farthest(self, way):
         """Aboard for those who want this way, the farthest wishes first, as many as there is room for."""
@@ -146,9 +135,5 @@ class Ride:
 
 def is_fit(house, lift, crowd, thing):
     """Whether a thing is a move of a lift on a floor where this crowd stands."""
-    if not is_built_move(thing):
-        return False
-    way, aboard = thing
-    if not 0 <= lift + way < house.floors or sum([many for _, many in aboard]) > house.room:
-        return False
-    return all([many <= crowd.get(want, 0) for want, many in aboard])
+    return (is_tuple_of(2, thing) and is_way(thing[0]) and 0 <= lift + thing[0] < house.floors
+            and is_boarding(house.room, crowd, thing[1]))

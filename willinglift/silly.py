@@ -16,9 +16,13 @@ def change(standing, move):
 
 def silly_in(standing, moves):
     """The list of the places of the silly ones of moves."""
+    return silly_places(Ride(standing), moves)
+
+
+def silly_places(ride, moves):
+    """Makes moves of a Ride, or a Walk, and lists the places of those that are silly."""
     if not isinstance(moves, tuple):
         raise BadMoves(-1)
-    ride = Ride(standing)
     places = []
     for index, thing in enumerate(moves):
         if not ride.fits(thing):

@@ -1,8 +1,10 @@
 """All standings that come up in plans without silly moves, and which of them stands behind which."""
 
-from willinglift.choices import Choices, aboard_of, choice_of, scale_of
+from willinglift.choices import Choices, aboard_of, choice_of
+from willinglift.codes import Codes
 from willinglift.errors import TooMany
 from willinglift.gaps import rest
+from willinglift.houses import crowds_in
 from willinglift.moves import MOST_LISTED, has_too_many, shifted
 from willinglift.rides import Ride
 
@@ -22,11 +24,11 @@ class Web:
         # As many standings, and the last one, come up in each plan.
         if least >= MOST_STANDINGS:
             raise TooMany(MOST_STANDINGS)
-        self.scale = scale_of(differences(standing, least))
-        self.powers = powers_of(self.scale, standing.house.floors)
+        crowds = crowds_in(standing.house.floors, standing.groups)
         # Each standing has a code, in which a move is a sum, so that it is soon found again.
-        self.codes = [0]
-        self.places = {0: 0}
+        self.coding = Codes(crowds, least * standing.house.room)
+        self.codes = [self.coding.code(standing.lift, crowds)]
+        self.places = {self.codes[0]: 0}
         self.depths = [0]
         self.came = [0]
         self.last = [None]
@@ -53,15 +55,16 @@ class Web:
         """The numbers of the standings behind the moves one way that are not silly."""
         least, most = bounds
         crowd = ride.crowds[ride.lift]
-        listed = Choices(crowd, self.scale, ride.lift, way).listed(ride.house.room, least, most)
+        scale = self.coding.scale
+        listed = Choices(crowd, scale, ride.keens(way)).listed(ride.house.room, least, most)
         base = self.codes[at] + way
-        stride = self.stride(ride.lift, way)
+        stride = self.coding.stride(ride.lift, ride.lift + way)
         places = self.places
         found = []
         for choice in listed:
             code = base + choice * stride
             if code not in places:
-                self.enter(at, code, (way, aboard_of(self.scale, choice)))
+                self.enter(at, code, (way, aboard_of(scale, choice)))
             found.append(places[code])
         return found
 
@@ -75,16 +78,10 @@ class Web:
         self.came.append(at)
         self.last.append(move)
 
-    def stride(self, lift, way):
-        """By how much a move this way changes the code for each unit of a choice."""
-        return self.powers[lift + way] - self.powers[lift]
-
     def move_to(self, at, other):
         """The move that leads from one standing to another that stands behind it."""
-        lift = self.standings[at].lift
-        way = self.standings[other].lift - lift
-        choice = (self.codes[other] - self.codes[at] - way) // self.stride(lift, way)
-        return way, aboard_of(self.scale, choice)
+        lift, there = self.standings[at].lift, self.standings[other].lift
+        return there - lift, self.coding.aboard(lift, there, self.codes[other] - self.codes[at])
 
     def moves_along(self, path):
         """The moves that lead from each standing of a row of numbers to the next."""
@@ -93,30 +90,5 @@ class Web:
     def place_behind(self, at, move):
         """The number of the standing behind a move that is not silly."""
         way, aboard = move
-        stride = self.stride(self.standings[at].lift, way)
-        return self.places[self.codes[at] + way + choice_of(self.scale, aboard) * stride]
-
-
-def differences(standing, many):
-    """The dict from the floors that are wanted to by how many, at most, those who want them and stand on one floor
-    are more in one of the standings behind so many moves, or fewer, than in another."""
-    most = 2 * many * standing.house.room
-    totals = {}
-    for _, want, people in standing.groups:
-        totals[want] = min(most, totals.get(want, 0) + people)
-    return totals
-
-
-def powers_of(scale, floors):
-    """How much each unit of a choice counts in a code for each floor that it can stand on.
-
-    The floor of the lift is the lowest digit of a code.
-    """
-    # Floors are told apart also where there is nobody.
-    base = 2
-    for _, _, size in scale:
-        base = base * size
-    powers = [floors]
-    while len(powers) < floors:
-        powers.append(powers[-1] * base)
-    return powers
+        lift = self.standings[at].lift
+        return self.places[self.codes[at] + self.coding.step(lift, lift + way, choice_of(self.coding.scale, aboard))]

@@ -19,8 +19,7 @@ def needs(standing, way):
 
 def ways(standing):
     """The ascending tuple of the ways on which some move is not silly."""
-    ride = Ride(standing)
-    return tuple([way for way in (-1, 1) if ride.needs(way) is not None])
+    return Ride(standing).ways()
 
 
 def wise_moves(standing):
@@ -31,9 +30,9 @@ def wise_moves(standing):
     crowd = ride.crowds[ride.lift]
     scale = scale_of(crowd)
     moves = []
-    for way in ways(standing):
+    for way in ride.ways():
         least, most = ride.needs(way)
-        choices = Choices(crowd, scale, ride.lift, way).listed(ride.house.room, least, most)
+        choices = Choices(crowd, scale, ride.keens(way)).listed(ride.house.room, least, most)
         moves.extend([(way, aboard_of(scale, choice)) for choice in choices])
     return moves
 
