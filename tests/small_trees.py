@@ -65,7 +65,7 @@ def slow_number(standing, road):
     if road in way_down(standing.tree.parents, standing.lift):
         backs = max(1, -(-back // room))
         while room * (backs - 1) < out:
-            backs += 1
+            backs = max(backs + 1, out // room)
         return 2 * backs - 1
     outs = 1 if left else 0
     while room * outs < max(out, back):

@@ -5,11 +5,13 @@ import unittest
 from willinglift.ends import rest_to
 from willinglift.gaps import counts, numbers, rest, spare
 from willinglift.houses import House, Standing
+from willinglift.logs import length_of
 from willinglift.news import free_seats, raised
 from willinglift.plans import plan
 from willinglift.rooms import loads, rest_for, rooms_for
 from willinglift.silly import change
 from willinglift.strangers import judged
+from willinglift.texts import log_text
 from willinglift.wise import needs
 from willinglift.wishes import least_wishes, most_wishes
 
@@ -51,6 +53,11 @@ class Examples(unittest.TestCase):
     def test_e10(self):
         self.assertEqual(judged(second, ((-1, ()), (1, ((2, 1),)), (1, ((2, 1),)), (-1, ((0, 1),)), (-1, ((0, 1),)))),
                          ("least", 5))
+
+    def test_e11(self):
+        self.assertEqual((length_of((("times", 10 ** 20, ((1, ((1, 1),)), (-1, ()))),)),
+                          log_text((("times", 3, ((1, ((1, 1),)), (-1, ()))),))),
+                         (200000000000000000000, "3( +1x1 - )"))
 
 
 if __name__ == "__main__":

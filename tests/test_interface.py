@@ -34,10 +34,18 @@ FUNCTIONS = {
     "strangers": ["judged(standing, thing)", "refuted(claim, house, most)", "few_moves(standing, many)"],
     "seen": ["seen_plans(standing, seen)", "seen_plan(standing, seen)"],
     "trees": ["is_tree_move(standing, thing)", "is_tree_plan(standing, thing)", "tree_moved(standing, move)"],
+    "roads": ["road_counts(standing, road)", "road_number(standing, road)", "road_sum(standing)",
+              "tree_rest(standing)", "is_stuck(standing)", "tree_ways(standing)", "tree_plan(standing)",
+              "tree_silly_in(standing, moves)", "line_tree(standing, end)"],
+    "texts": ["standing_text(standing)", "log_text(log)", "prices_text(prices)", "read_standing(text)",
+              "read_log(text)", "read_prices(text)"],
+    "branches": ["tree_text(standing)", "read_tree(text)"],
 }
 CLASSES = {
     "houses": ["House(floors, room)", "Standing(house, lift, groups)"],
     "lifts": ["Lift(standing)"],
+    "treelifts": ["TreeLift(standing)"],
+    "desks": ["Desk()"],
     "trees": ["Tree(parents, room)", "TreeStanding(tree, lift, groups)"],
 }
 METHODS = {
@@ -46,6 +54,9 @@ METHODS = {
     "Lift": ["go(self, way, aboard)", "join(self, group)", "finish(self)", "now(self)", "gone(self)", "silly(self)",
              "rest(self)", "ways(self)", "saved(self)", "back(self)", "depth(self)", "copy(self)",
              "trying(self, deed)"],
+    "TreeLift": ["go(self, place, aboard)", "now(self)", "gone(self)", "silly(self)", "whole(self)", "ways(self)",
+                 "stuck(self)", "back(self)", "depth(self)", "copy(self)", "trying(self, deed)"],
+    "Desk": ["tell(self, line)", "undoable(self)"],
 }
 
 

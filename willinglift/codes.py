@@ -4,21 +4,6 @@ from willinglift.choices import aboard_of, scale_of
 from willinglift.houses import wanted_by
 
 
-def powers_of(scale, floors):
-    """How much each unit of a choice counts in a code for each floor that it can stand on.
-
-    The floor of the lift is the lowest digit of a code.
-    """
-    # Floors are told apart also where there is nobody.
-    base = 2
-    for _, _, size in scale:
-        base = base * size
-    powers = [floors]
-    while len(powers) < floors:
-        powers.append(powers[-1] * base)
-    return powers
-
-
 class Codes:
     """The codes of all standings that can be come to from one with these crowds if at most so many people are carried.
 
@@ -30,7 +15,14 @@ class Codes:
         self.totals = wanted_by(crowds)
         # Those who want one floor, and stand on one, can become so many more, and so many fewer.
         self.scale = scale_of({want: min(2 * most, many) for want, many in self.totals.items()})
-        self.powers = powers_of(self.scale, self.places)
+        # Floors are told apart also where there is nobody.
+        self.base = 2
+        for _, _, size in self.scale:
+            self.base = self.base * size
+        # How much each unit of a choice counts on each floor; the lift is below them all.
+        self.powers = [self.places]
+        while len(self.powers) < self.places:
+            self.powers.append(self.powers[-1] * self.base)
         # Of crowds that are greater than what is carried only the rest beyond these is told.
         self.lows = [{want: many - most for want, many in crowd.items() if many > most} for crowd in crowds]
 
@@ -52,8 +44,7 @@ class Codes:
 
     def block(self, code, place):
         """What tells the crowd of a floor, and is the same where this is."""
-        above = code // self.powers[place]
-        return above if place == self.places - 1 else above % (self.powers[1] // self.powers[0])
+        return code // self.powers[place] % self.base
 
     def crowd(self, code, place):
         """The dict from wants to how many stand on a floor."""

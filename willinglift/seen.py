@@ -113,9 +113,9 @@ class Watch:
         for index, (way, _) in enumerate(self.seen):
             lift = self.lifts[index]
             steps = [step for step in self.steps(code, index, {}) if code + step in hopes[index + 1]]
-            aboard, step = min([(self.codes.aboard(lift, lift + way, step), step) for step in steps])
+            aboard, added = min([(self.codes.aboard(lift, lift + way, step), step) for step in steps])
             moves.append((way, aboard))
-            code += step
+            code += added
         return tuple(moves)
 
 

@@ -85,9 +85,10 @@ class Walk:
         keen = sum([many for want, many in self.crowds[self.lift].items() if keens[want]])
         room = self.tree.room
         out, back, left = self.counts(road)
+        number = number_of(room, out, back, left > 0, place < road)
         if place == road:
-            return bounds_out(room, number_of(room, out, back, left > 0, False), out, back, keen)
-        return bounds_back(room, number_of(room, out, back, left > 0, True), out, back, keen, left)
+            return bounds_out(room, number, out, back, keen)
+        return bounds_back(room, number, out, back, keen, left)
 
     def ways(self):
         """The ascending tuple of the places beside to which some move lowers the sum."""
