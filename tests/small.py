@@ -140,3 +140,7 @@ STRANGERS = [
     nested(40, tuple), nested(40, list), nested(40, dict), (1, nested(38, tuple)), (nested(39, tuple), ()),
     ((1, nested(37, list)),), ((1, ((nested(36, tuple), 1),)),),
 ]
+
+# Words that are no numbers: needless zeros, signs, too many digits, and so on.
+NO_NUMBERS = ["", "00", "01", "-1", "+1", "-0", "1 ", " 1", "1\t", "\t1", "1.0", "1e3", "0x1", "1_0", "a", "1a", "one",
+              "1,0", "1" * 32, "0" * 31, "~", "10 "]

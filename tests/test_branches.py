@@ -2,9 +2,8 @@ import random
 import time
 import unittest
 
-from tests.small import STRANGERS
+from tests.small import NO_NUMBERS, STRANGERS
 from tests.small_trees import drawn_standing, star
-from tests.test_texts import NO_NUMBERS
 from willinglift.branches import read_tree, tree_text
 from willinglift.errors import BadStanding, BadText, BadTree
 from willinglift.houses import House, standing_of

@@ -2,7 +2,7 @@ import random
 import time
 import unittest
 
-from tests.small import HOUSE, STANDING, STRANGERS, great_standing, small_standings
+from tests.small import HOUSE, NO_NUMBERS, STANDING, STRANGERS, great_standing, small_standings
 from willinglift.errors import BadHouse, BadLog, BadStanding, BadText
 from willinglift.houses import House, Standing, standing_of
 from willinglift.logs import is_log, length_of
@@ -11,9 +11,6 @@ from willinglift.texts import log_text, prices_text, read_log, read_prices, read
 
 UP, DOWN = (1, ()), (-1, ())
 GREAT = 10 ** 31 - 1
-# What no word is a number: needless zeros, signs, too many digits, and so on.
-NO_NUMBERS = ["", "00", "01", "-1", "+1", "-0", "1 ", " 1", "1\t", "\t1", "1.0", "1e3", "0x1", "1_0", "a", "1a", "one",
-              "1,0", "1" * 32, "0" * 31, "~", "10 "]
 ONE_WORD = [word for word in NO_NUMBERS if " " not in word]
 
 
